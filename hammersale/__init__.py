@@ -1,0 +1,1 @@
+"""Hammersale: lots sold by rungs, with letters, returns and resales."""
