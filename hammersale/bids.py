@@ -1,6 +1,6 @@
 """Lots, bids and their tops [2.1, 2.2]."""
 
-from hammersale.checks import is_tuple_of, is_within
+from hammersale.checks import is_rising, is_tuple_of, is_within
 from hammersale.errors import NoBids, NoLot
 from hammersale.ladders import GREATEST_BOUND, check_ladder, last_rung
 
@@ -37,13 +37,25 @@ def is_buyer(thing):
     return is_within(thing, 0, GREATEST_BUYER)
 
 
+def are_rising_buyers(thing):
+    """Whether anything is a rising tuple of buyers, perhaps of none."""
+    if not isinstance(thing, tuple):
+        return False
+    return all([is_buyer(one) for one in thing]) and is_rising(thing)
+
+
 def tops_of(ladder, lot, bids):
     """The tops of the bids, in their order, None for each that has none."""
+    check_offer(ladder, lot, bids)
+    start = lot[0]
+    return [last_rung(ladder, start, bound) for buyer, bound in bids]
+
+
+def check_offer(ladder, lot, bids):
+    """Refuses what is no ladder, no lot, no bids, the one furthest to the left first."""
     check_ladder(ladder)
     check_lot(lot)
     check_bids(bids)
-    start = lot[0]
-    return [last_rung(ladder, start, bound) for buyer, bound in bids]
 
 
 def check_lot(thing):

@@ -1,13 +1,12 @@
 """Lots and bids [2.1], tops [2.2]."""
 
-import inspect
 import unittest
 
 from hammersale import bids as module
 from hammersale.bids import are_bids, is_lot, tops_of
 from hammersale.errors import NoBids, NoLadder, NoLot
 from hammersale.ladders import last_rung
-from tests.things import HUGE, assert_looker, assert_refused, assert_refuses_odd, told_at_once
+from tests.things import HUGE, assert_looker, assert_parameters, assert_refused, assert_refuses_odd, told_at_once
 
 LADDER = ((0, 1), (10, 3), (20, 7), (1000, 100))
 EIGHT = tuple((buyer, 10 ** 6) for buyer in range(8))
@@ -50,9 +49,7 @@ class LookersTest(unittest.TestCase):
             self.assertIs(are_bids(thing), are_bids(thing))
 
     def test_interface(self):
-        kinds = {"is_lot": ["thing"], "are_bids": ["thing"], "tops_of": ["ladder", "lot", "bids"]}
-        for name, handed in kinds.items():
-            self.assertEqual(list(inspect.signature(getattr(module, name)).parameters), handed)
+        assert_parameters(self, module, {"is_lot": "thing", "are_bids": "thing", "tops_of": "ladder lot bids"})
 
 
 class TopsOfTest(unittest.TestCase):

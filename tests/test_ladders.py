@@ -1,13 +1,13 @@
 """Ladders [1.1], rungs [1.2], and what holds for all [0.2 to 0.5]."""
 
-import inspect
 import itertools
 import unittest
 
 from hammersale import ladders
 from hammersale.errors import NoLadder, NoPrice, NoRung
 from hammersale.ladders import is_ladder, last_rung, price_at, price_behind
-from tests.things import (HUGE, assert_looker, assert_refused, assert_refuses_odd, number_borders, told_at_once)
+from tests.things import (HUGE, assert_looker, assert_parameters, assert_refused, assert_refuses_odd, number_borders,
+                          told_at_once)
 
 FOUR = ((0, 1), (10, 3), (20, 7), (1000, 100))
 
@@ -62,10 +62,9 @@ class IsLadderTest(unittest.TestCase):
             self.assertIs(is_ladder(thing), is_ladder(thing))
 
     def test_interface(self):
-        kinds = {"is_ladder": ["thing"], "price_behind": ["ladder", "price"],
-                 "price_at": ["ladder", "start", "rung"], "last_rung": ["ladder", "start", "bound"]}
-        for name, handed in kinds.items():
-            self.assertEqual(list(inspect.signature(getattr(ladders, name)).parameters), handed)
+        assert_parameters(self, ladders, {
+            "is_ladder": "thing", "price_behind": "ladder price", "price_at": "ladder start rung",
+            "last_rung": "ladder start bound"})
 
 
 class PriceBehindTest(unittest.TestCase):

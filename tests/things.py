@@ -1,6 +1,7 @@
 """What several tests share: odd things, borders, and how refusals and long ways are looked at."""
 
 import copy
+import inspect
 import sys
 
 from hammersale.errors import SaleError
@@ -15,7 +16,7 @@ def wrapped(core, wrap, times):
 
 
 def odd_things():
-    """Made anew each time. None of them is a ladder, a lot, bids or a number that may be handed in anywhere."""
+    """Made anew each time. None of them, be it a number, is what may be handed in anywhere."""
     return [
         None, True, False, HUGE, -HUGE, -1,
         "", " ", "0", "1", "none", "0+1", "\t\n", "~" * 1000,
@@ -23,7 +24,7 @@ def odd_things():
         {}, {0: 1}, {"floor": 0, "step": 1}, {(0, 1): None},
         ((),), ((), ()), ([],), ({},), (None,), (True,), (False, True), ("0", "1"), (None, None),
         ("ab",), ("a", "b"), ({0: 0, 1: 1},), ([0, 1],), ((0, 1), [5, 1]), ((0, 1), None), ((0, 1), 5),
-        ((HUGE, HUGE),), ((0, HUGE),), ((-HUGE, 1),), (0, 1, 2), (((0, 1),),), tuple(range(100)),
+        ((HUGE, HUGE),), ((0, HUGE),), ((-HUGE, 1),), (2, 1, 0), (((0, 1),),), tuple(range(100)),
         wrapped(1, lambda core: (core,), 7), wrapped((0, 1), lambda core: (core,), 6),
         wrapped(1, lambda core: [core], 7), wrapped("x", lambda core: {0: core}, 7),
         wrapped(True, lambda core: (core, core), 7),
@@ -55,6 +56,20 @@ def assert_refuses_odd(case, due, function, handed, at):
         assert_refused(case, due, function, *row)
 
 
+def assert_refuses_each(case, function, handed, dues):
+    """Refused with the class that is due in each place, that of the one furthest to the left first."""
+    function(*handed)
+    for at, due in enumerate(dues):
+        assert_refuses_odd(case, due, function, handed, at)
+
+
+def assert_parameters(case, module, told):
+    """The names of the functions, and those of what is handed in, are as the interface tells them."""
+    for name, handed in told.items():
+        parameters = inspect.signature(getattr(module, name)).parameters
+        case.assertEqual(list(parameters), handed.split(), name)
+
+
 def assert_looker(case, looker, good, bad):
     """True, and nothing that equals it, of the good; False of the bad and of each odd thing."""
     for thing in good:
@@ -65,9 +80,9 @@ def assert_looker(case, looker, good, bad):
         case.assertEqual(repr(thing), before)
 
 
-def told_at_once(function, *handed):
-    """What the function tells, if it tells it within a few thousand lines of code."""
-    left = [5000]
+def told_at_once(function, *handed, lines=5000):
+    """What the function tells, if it tells it within so many lines of code."""
+    left = [lines]
 
     def count(frame, event, arg):
         left[0] -= 1
