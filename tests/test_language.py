@@ -107,6 +107,25 @@ class LanguageTest(unittest.TestCase):
                 self.assertNotIn(word, BARRED_NAMES, name)
                 self.assertFalse(hasattr(builtins, word), f"{name}: {word}")
 
+    def test_no_local_name_is_that_of_an_import_or_a_class(self):
+        for name, tree in trees():
+            taken = [one.name for node in imports_of(tree) for one in node.names]
+            taken += [node.name for node in tree.body if isinstance(node, ast.ClassDef)]
+            for function in [node for node in ast.walk(tree) if isinstance(node, ast.FunctionDef)]:
+                inner = [word for part in function.args.args + function.body for word in bound_names(part)]
+                self.assertEqual(sorted(set(inner) & set(taken)), [], f"{name}: {function.name}")
+
+    def test_methods_and_attributes(self):
+        classes = [node for name, node in nodes() if isinstance(node, ast.ClassDef)]
+        methods = {one.name for node in classes for one in node.body if isinstance(one, ast.FunctionDef)}
+        attributes = {node.attr for name, node in nodes()
+                      if isinstance(node, ast.Attribute) and not isinstance(node.ctx, ast.Load)}
+        self.assertEqual(sorted(methods & attributes), [])
+        of_values = {word for value in ("", b"", 0, [], (), {}, set()) for word in dir(value)}
+        self.assertEqual(sorted((methods | attributes) & of_values), ["__init__"])
+        read = {node.attr for name, node in nodes() if isinstance(node, ast.Attribute)}
+        self.assertEqual(sorted(read - methods - attributes - of_values), [])
+
     def test_builtins(self):
         for name, tree in trees():
             known = set(bound_names(tree)) | ALLOWED
