@@ -64,10 +64,10 @@ class Sale:
         self.stand(books)
 
     def give_back(self, lot, buyer):
-        """Who has a lot, or one who is one with them, gives it back."""
+        """Who has a lot gives it back; nobody else may, not even one who is one with them."""
         self.check_place(lot, buyer)
         held = self.holder(lot)
-        if held is None or held[0] not in self.books.rings[buyer]:
+        if held is None or held[0] != buyer:
             raise NoBid("this buyer doesn't have this lot")
         books = self.books.copied()
         books.returned[(lot, buyer)] = True

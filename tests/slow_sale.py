@@ -71,7 +71,7 @@ class SlowSale:
         if due is not None:
             return due
         held = self.holder(lot)
-        return None if held is not None and held[0] in self.one_with(buyer) else NoBid
+        return None if held is not None and held[0] == buyer else NoBid
 
     def due_keep(self, lot, buyer):
         due = self.due_place(lot, buyer)

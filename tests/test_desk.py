@@ -82,6 +82,14 @@ class LinesTest(unittest.TestCase):
             ("pay 7 1000000000", "ok"), ("owes 3", "-999999990"), ("undo", "ok"), ("owes 3", "10"),
             ("undo", "ok"), ("bids 0", "3=40,5=50,7=90"), ("undo", "ok"), ("bids 0", "1=20,3=40,5=50,7=90"))
 
+    def test_back_by_the_holder_alone(self):
+        desk = desk_of("enter 33 33 0:1", "join 5 2", "bid 0 2 524 165")
+        for buyer in (0, 1, 3, 4, 5, 6, 7):
+            assert_refused(self, NoBid, desk.say, f"back 0 {buyer}")
+            self.assertEqual((desk.say("holder 0"), desk.say("losses 0")), ("2 33", "none"))
+        self.assertEqual(desk.say("back 0 2"), "ok")
+        self.assertEqual((desk.say("holder 0"), desk.say("losses 0")), ("none", "2=0"))
+
     def test_enter_tells_the_lots_number(self):
         desk = desk_of()
         self.assertEqual([desk.say("enter 1 1 0:1") for lot in range(6)], list("012345"))

@@ -400,19 +400,48 @@ class GiveBackTest(unittest.TestCase):
             kept_as_it_was(self, sale, NoBid, sale.give_back, 0, buyer)
 
     def test_by_one_who_is_one_with_them(self):
-        for buyer in (5, 6, 7):
-            sale = long_chain()
-            sale.unite(6, 7)
-            sale.unite(5, 6)
-            self.assertEqual(sale.holder(0), (5, 50))
-            sale.give_back(0, buyer)
-            self.assertEqual(sale.holder(0), (3, 40))
-            self.assertEqual(sale.losses(0), [(5, 10)])
-            for other in (5, 6, 7):
-                if other != buyer:
-                    kept_as_it_was(self, sale, NoBid, sale.keep, 0, other)
-            sale.keep(0, buyer)
-            self.assertEqual(sale.holder(0), (5, 50))
+        # 5, 6 and 7 are one, and 5 and 7 bid; so the lot is 5's, the least of these two.
+        sale = long_chain()
+        sale.unite(6, 7)
+        sale.unite(5, 6)
+        self.assertEqual(sale.holder(0), (5, 50))
+        for buyer in (0, 1, 2, 3, 4, 6, 7):
+            kept_as_it_was(self, sale, NoBid, sale.give_back, 0, buyer)
+        sale.give_back(0, 5)
+        self.assertEqual(sale.holder(0), (3, 40))
+        self.assertEqual(sale.losses(0), [(5, 10)])
+        for buyer in (6, 7):
+            kept_as_it_was(self, sale, NoBid, sale.keep, 0, buyer)
+        sale.keep(0, 5)
+        self.assertEqual(sale.holder(0), (5, 50))
+
+    def test_by_a_lesser_one_with_them_who_did_not_bid(self):
+        sale = sale_of((33, 33), ladder=((0, 10), (54, 39), (94, 20)), terms=(16, 27))
+        sale.unite(2, 5)
+        sale.bid(0, 5, 524, 165)
+        self.assertEqual((sale.holder(0), sale.one_with(2)), ((5, 33), [2, 5]))
+        kept_as_it_was(self, sale, NoBid, sale.give_back, 0, 2)
+        # With a bid of 2 the lot is 2's, and 5 may give it back no more.
+        sale.bid(0, 2, 0, 1)
+        self.assertEqual(sale.holder(0), (2, 33))
+        kept_as_it_was(self, sale, NoBid, sale.give_back, 0, 5)
+        sale.give_back(0, 2)
+        self.assertIsNone(sale.holder(0))
+
+    def test_who_has_it_changes_with_whom_they_are_united(self):
+        sale = long_chain()
+        sale.unite(7, 3)
+        self.assertEqual(sale.holder(0), (3, 60))
+        kept_as_it_was(self, sale, NoBid, sale.give_back, 0, 7)
+        sale.undo()
+        kept_as_it_was(self, sale, NoBid, sale.give_back, 0, 3)
+        sale.give_back(0, 7)
+        sale.unite(7, 3)
+        # The giving back is still 7's, though 3 now stands for both.
+        self.assertEqual((sale.holder(0), sale.losses(0)), ((5, 50), [(3, 10)]))
+        kept_as_it_was(self, sale, NoBid, sale.keep, 0, 3)
+        sale.keep(0, 7)
+        self.assertEqual(sale.holder(0), (3, 60))
 
     def test_by_another(self):
         sale = long_chain()
@@ -824,7 +853,7 @@ class UndoTest(unittest.TestCase):
         ("enter", 10, 20, PARTS), ("enter", 10, 10, PARTS), ("bid", 0, 2, 5, 60), ("bid", 0, 4, 3, 50),
         ("bid", 0, 2, 1, 70), ("pay", 2, 30), ("give_back", 0, 2), ("give_back", 0, 4), ("unite", 2, 6),
         ("bid", 1, 6, 0, 10), ("resale", 0, 1), ("pay", 6, 5), ("strike", 0, 4), ("bid", 0, 5, 9, 40), ("keep", 0, 2),
-        ("give_back", 0, 6), ("give_back", 0, 5), ("enter", 10, 20, PARTS), ("bid", 2, 1, 999, 20), ("resale", 0, 2),
+        ("give_back", 0, 2), ("give_back", 0, 5), ("enter", 10, 20, PARTS), ("bid", 2, 1, 999, 20), ("resale", 0, 2),
         ("unite", 4, 6), ("pay", 2, 1), ("strike", 1, 6), ("unite", 0, 1), ("keep", 0, 5),
     )
 

@@ -31,7 +31,9 @@ def drawn_deed(dice, slow):
         return name, (lot, buyer, dice.choice((0, 1, 2, 3, 999, 1000)), dice.choice((0, 3, 7, 8, 12, 15, 20, 25)))
     if name == "give_back" and 0 <= lot < slow.lots() and dice.random() < 0.8:
         held = slow.holder(lot)
-        return name, (lot, buyer if held is None else dice.choice(slow.one_with(held[0])))
+        if held is not None:
+            buyer = held[0] if dice.random() < 0.7 else dice.choice(slow.one_with(held[0]))
+        return name, (lot, buyer)
     if name == "keep" and 0 <= lot < slow.lots() and dice.random() < 0.8:
         return name, (lot, dice.choice(sorted(slow.back(lot)) + [buyer]))
     if name == "resale":
@@ -74,6 +76,8 @@ class SessionTest(unittest.TestCase):
 
     def tell(self, name, handed):
         number = self.slow.lots()
+        if name == "give_back":
+            self.look_at_giver(*handed)
         due = self.slow.do(name, *handed)
         self.seen.add(due)
         answer = None if due else number if name == "enter" else None
@@ -108,6 +112,12 @@ class SessionTest(unittest.TestCase):
         paid = sum(amount for buyer, amount in self.slow.told("pay"))
         self.assertEqual(owed + paid, sum(told["gets"]) + told["house"])
 
+    def look_at_giver(self, lot, buyer):
+        """Notes whether one who is one with the holder, but isn't the holder, gives a lot back [6.1]."""
+        held = self.slow.holder(lot) if 0 <= lot < self.slow.lots() else None
+        if held is not None and buyer != held[0] and buyer in self.slow.one_with(held[0]):
+            self.seen.add("one with the holder")
+
     def look_at_losses(self, told):
         """Notes which of the ways of 6.3 were gone."""
         for lot, (bids, held, losses, money) in enumerate(told["each lot"]):
@@ -129,7 +139,7 @@ class SessionTest(unittest.TestCase):
                 if deed % 9 == 0:
                     self.sale = self.sale.twin()
         self.assertGreaterEqual(self.seen, {
-            None, NoLot, NoBuyer, NoHour, NoPrice, NoBid, NoParts, There, TooMany,
+            None, NoLot, NoBuyer, NoHour, NoPrice, NoBid, NoParts, There, TooMany, "one with the holder",
             ("losers", 0), ("losers", 1), ("losers", 2), ("losers", 3),
             ("again", True, True), ("again", True, False), ("again", False, False), ("had", True)})
 
